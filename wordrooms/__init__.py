@@ -1,0 +1,1 @@
+"""Wordrooms: a language in which everything is a text."""
