@@ -25,6 +25,11 @@ def list_text(words):
 def read_list(text):
     """The list of words of which this is a text."""
     refuse_long(text)
+    return read_words(text)
+
+
+def read_words(text):
+    """The words of a list's text of any length: a page, and what stands in it, may be longer than other texts."""
     words = []
     at = behind_white(text, 0)
     while at < len(text):
